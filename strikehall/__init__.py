@@ -1,0 +1,1 @@
+"""Strikehall: bounds found by strikes."""
