@@ -1,7 +1,8 @@
 """A program's text, gone through row by row."""
 
-from strikehall.fitting import names_with_kinds
-from strikehall.programs import MOST_FUNCTIONS, MOST_GIVEN, MOST_NODES
+from strikehall.bodies import names_with_kinds
+from strikehall.looking import MOST_NODES
+from strikehall.programs import MOST_FUNCTIONS, MOST_GIVEN
 from strikehall.rows import read_given, read_head, read_node
 
 

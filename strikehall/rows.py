@@ -1,7 +1,10 @@
 """Single rows of a program's text, read by their form alone: what is none is told as None."""
 
-from strikehall.programs import KINDS, MOST_PARAMS, RIGHTS, is_name
+from strikehall.looking import KINDS, MOST_PARAMS
+from strikehall.programs import is_name
 
+# What stands behind the word of a let's right side: "a" an atom, "r" the name of a row.
+RIGHTS = {"be": "a", "sum": "aa", "long": "r", "part": "ra", "with": "raa", "cut": "ra"}
 NUMBERS = {"-4": -4, "-3": -3, "-2": -2, "-1": -1, "0": 0, "1": 1, "2": 2, "3": 3, "4": 4}
 STEPS = {"-4": -4, "-3": -3, "-2": -2, "-1": -1, "+1": 1, "+2": 2, "+3": 3, "+4": 4}
 

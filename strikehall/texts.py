@@ -1,7 +1,8 @@
 """Programs as texts."""
 
+from strikehall.bodies import terms_at_entry
 from strikehall.errors import BadText
-from strikehall.fitting import first_misfit, terms_at_entry
+from strikehall.looking import heads_of, look_at_function
 from strikehall.programs import need_program
 from strikehall.reading import Reading
 
@@ -109,8 +110,9 @@ def read_program(text):
     reading = reading_of(text)
     need_given(reading)
     functions = reading.functions()
+    heads = heads_of(functions)
     for number in range(len(functions)):
-        misfit = first_misfit(functions, number)
+        misfit = look_at_function(functions, number, heads)
         if misfit is not None:
             raise BadText(reading.places[number][misfit])
     return (tuple(reading.given), functions)
