@@ -1,0 +1,133 @@
+"""How programs are looked at: once, each node once, and nothing is kept."""
+
+import sys
+import unittest
+from unittest import mock
+
+from strikehall import looking
+from strikehall.programs import ahead_of, is_program, kinds_of, need_program, nodes_of
+from strikehall.runs import calls_of, need_inputs, run, steps_of
+from strikehall.strikes import (
+    all_struck, holds_by, left_of, lies_within, rounds_of, standing, struck_at)
+from strikehall.texts import program_text, read_program
+from strikehall.ways import (
+    candidates, end_terms, entry_terms, facts_at, need_judged, needed_at, pool_of)
+from tests.samples import ATOM, MIXED, at, chain, function, let, musts, numbers, program, row, rows
+
+BODY = """let nm sum x+1 2
+let nl sum x+1 2
+must 0 x+1
+let nj sum x+1 2
+let ni sum x+1 2
+must 0 x+1
+let ng sum x+1 2
+let nf sum x+1 2
+must 0 x+1
+let nd sum x+1 2
+let nc sum x+1 2
+give x"""
+NAMES = ("ma", "mb", "mc", "md")
+HEADS = [f"fn {name} number x:number y:row" for name in NAMES]
+SUMS = "given 0 x 1\ngiven x 0 4\n" + "\n".join(head + "\n" + BODY for head in HEADS)
+OTHERS = """let a call mb x-1 y
+let b long y
+let c part y 0
+let d with y x-4 b+1
+let e cut d 2
+if a b+1
+ let f be c
+ if f 0
+  give f
+ else
+  give 4
+else
+ let g call mc a e
+ give g"""
+ALL_KINDS = "\n".join(head + "\n" + OTHERS for head in HEADS)
+
+
+def steps_taken(call):
+    """How many lines of Python are gone through, and how many calls of functions: what takes the time, without a clock."""
+    taken = {"line": 0, "call": 0}
+
+    def count(frame, event, arg):
+        if event in taken:
+            taken[event] += 1
+        return count
+    ahead = sys.gettrace()
+    sys.settrace(count)
+    try:
+        call()
+    finally:
+        sys.settrace(ahead)
+    return taken["line"], taken["call"]
+
+
+class Short(unittest.TestCase):
+    def within(self, call, many_lines, many_calls):
+        lines, calls = steps_taken(call)
+        self.assertLess(lines, many_lines)
+        self.assertLess(calls, many_calls)
+
+    def test_of_sums_and_musts(self):
+        made = read_program(SUMS)
+        self.within(lambda: need_program(made), 2300, 230)
+        self.within(lambda: is_program(made), 2300, 230)
+
+    def test_of_ifs_calls_and_all_lets(self):
+        made = read_program(ALL_KINDS)
+        self.within(lambda: need_program(made), 2300, 350)
+
+    def test_of_one_function_asked_for(self):
+        made = read_program(SUMS)
+        for f in range(4):
+            self.within(lambda: nodes_of(made, f), 2500, 240)
+            self.within(lambda: kinds_of(made, f), 2600, 260)
+            for n in range(12):
+                self.within(lambda: ahead_of(made, f, n), 2600, 240)
+
+    def test_of_what_is_no_program(self):
+        good = read_program(SUMS)
+        for k in range(4):
+            name, params, out, _ = good[1][k]
+            for body in (chain(13), musts(40000), let("x", ("be", ATOM)), ("give", at("z")), ("give", 5)):
+                made = (good[0], good[1][:k] + ((name, params, out, body),) + good[1][k + 1:])
+                self.assertIs(is_program(made), False)
+                self.within(lambda: is_program(made), 2300, 230)
+
+
+class Once(unittest.TestCase):
+    def looks(self, call):
+        """How many bodies are looked at."""
+        with mock.patch.object(looking, "look_at_body", wraps=looking.look_at_body) as look:
+            call()
+        return look.call_count
+
+    def test_each_function_looks_once(self):
+        inputs = (2, (1, 2, 3, 4, 5))
+        judged = candidates(MIXED)
+        calls = [
+            lambda: is_program(MIXED), lambda: need_program(MIXED), lambda: nodes_of(MIXED, 0),
+            lambda: ahead_of(MIXED, 0, 8), lambda: kinds_of(MIXED, 1), lambda: program_text(MIXED),
+            lambda: pool_of(MIXED), lambda: entry_terms(MIXED, 0), lambda: end_terms(MIXED, 1),
+            lambda: candidates(MIXED), lambda: facts_at(MIXED, judged, 0, 8), lambda: needed_at(MIXED, judged, 0, 0),
+            lambda: need_judged(MIXED, judged), lambda: struck_at(MIXED, judged, 0, 8),
+            lambda: all_struck(MIXED, judged), lambda: holds_by(MIXED, judged), lambda: rounds_of(MIXED, judged),
+            lambda: left_of(MIXED, judged), lambda: standing(MIXED), lambda: lies_within(MIXED, judged, judged),
+        ]
+        for k, call in enumerate(calls):
+            self.assertEqual(self.looks(call), 3, k)
+        plain = program(function(name="m", params=numbers("n") + rows("r")), function(name="f"), function(name="g"))
+        for k, call in enumerate([lambda: need_inputs(plain, inputs), lambda: run(plain, inputs, 300),
+                                  lambda: steps_of(plain, inputs, 300), lambda: calls_of(plain, inputs, 300)]):
+            self.assertEqual(self.looks(call), 3, k)
+
+    def test_each_time_anew(self):
+        made = program(function(params=rows("r"), body=("give", row("r")), out="row"))
+        for _ in range(3):
+            self.assertEqual(self.looks(lambda: need_program(made)), 1)
+            self.assertEqual(self.looks(lambda: kinds_of(made, 0)), 1)
+
+
+if __name__ == "__main__":
+    unittest.main()
