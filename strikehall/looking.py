@@ -114,8 +114,8 @@ def look_at_body(node, params, out, heads):
                 return -1
             if name in taken:
                 told = MISFITS
-            word = right[0]
-            kinds[name] = taken[name] = GIVES[word] if word in GIVES else kind_called(right, heads)
+            given = right[0]
+            kinds[name] = taken[name] = GIVES[given] if given in GIVES else kind_called(right, heads)
         elif word == "must" and len(node) == 4 or word == "if" and len(node) == 5:
             told = look_at_atoms(node[1:3], kinds)
             following = node[3]

@@ -58,6 +58,15 @@ class Shortest(unittest.TestCase):
         self.assertEqual(ring_for(facts + (("", "", -1),)), [5])
         self.assertEqual(ring_for((("", "", -1), ("", "", -1))), [0])
 
+    def test_a_short_ring_ahead_of_long_ones(self):
+        rings = [(("a", "b", 0), ("b", "a", -1)), (("c", "d", 0), ("d", "e", 0), ("e", "c", -1)),
+                 (("f", "g", 1), ("g", "h", -3), ("h", "i", 0), ("i", "f", 1))]
+        for order in itertools.permutations(rings):
+            facts = tuple(fact for ring in order for fact in ring)
+            self.assertEqual(sorted(facts[place] for place in ring_for(facts)), sorted(rings[0]))
+        self.assertEqual(sorted(ring_for(rings[1] + rings[2])), [0, 1, 2])
+        self.assertEqual(sorted(ring_for(rings[2] + rings[1])), [4, 5, 6])
+
     def test_rings_by_trying(self):
         chance = random.Random(5)
         lengths = set()

@@ -5,6 +5,7 @@ import unittest
 from unittest import mock
 
 from strikehall import looking
+from strikehall.errors import BadProgram
 from strikehall.programs import ahead_of, is_program, kinds_of, need_program, nodes_of
 from strikehall.runs import calls_of, need_inputs, run, steps_of
 from strikehall.strikes import (
@@ -12,7 +13,8 @@ from strikehall.strikes import (
 from strikehall.texts import program_text, read_program
 from strikehall.ways import (
     candidates, end_terms, entry_terms, facts_at, need_judged, needed_at, pool_of)
-from tests.samples import ATOM, MIXED, at, chain, function, let, musts, numbers, program, row, rows
+from tests.samples import (
+    ATOM, GIVE, MIXED, Number, Odd, Text, at, chain, function, let, musts, numbers, program, row, rows)
 
 BODY = """let nm sum x+1 2
 let nl sum x+1 2
@@ -94,6 +96,64 @@ class Short(unittest.TestCase):
                 made = (good[0], good[1][:k] + ((name, params, out, body),) + good[1][k + 1:])
                 self.assertIs(is_program(made), False)
                 self.within(lambda: is_program(made), 2300, 230)
+
+
+class Formless(unittest.TestCase):
+    """What is none by its form is told ahead of names that misfit in a function ahead of it."""
+
+    PARAMS = numbers("n") + rows("r")
+    MISFIT = function(("give", at("z")), name="m")
+
+    def refused(self, thing):
+        with self.assertRaises(BadProgram) as told:
+            need_program(((), (self.MISFIT, thing, self.MISFIT)))
+        self.assertEqual(told.exception.place, 1)
+
+    def body_refused(self, body):
+        self.refused(function(body, params=self.PARAMS))
+        self.refused(function(let("q", ("be", ATOM), body), params=self.PARAMS))
+        self.refused(function(("if", ATOM, ATOM, GIVE, body), params=self.PARAMS))
+
+    def bodies(self):
+        atoms = [at("n", 1), ("num", 1)]
+        nodes = [("give", row("r"))] + [("give", atom) for atom in atoms] + [
+            (word, one, other, *[GIVE] * many) for word, many in (("must", 1), ("if", 2)) for one in atoms for other in atoms]
+        rights = [("long", "r"), ("call", "m", (at("n"), row("r"))), ("call", "m", ())]
+        rights += [(word, *first, *[atom] * many) for atom in atoms for word, first, many in (
+            ("be", (), 1), ("sum", (), 2), ("part", ("r",), 1), ("with", ("r",), 2), ("cut", ("r",), 1))]
+        return nodes + [let("x", right) for right in rights]
+
+    def parts_of(self, thing, way=()):
+        yield way
+        if type(thing) is tuple:
+            for k, part in enumerate(thing):
+                yield from self.parts_of(part, way + (k,))
+
+    def with_part(self, thing, way, part):
+        if not way:
+            return part
+        k = way[0]
+        return thing[:k] + (self.with_part(thing[k], way[1:], part),) + thing[k + 1:]
+
+    def test_each_part_of_each_body(self):
+        for body in self.bodies():
+            for way in self.parts_of(body):
+                for part in (None, True, "A", "", "else", 5, (), [], {}, b"a", Odd(), Text("give"), Text("n"), Text("r"),
+                             Text("let"), Text("must"), Text("at"), Text("num"), Text("row"), Number(1), ((),)):
+                    if not (type(part) is tuple and part == () and way == (2, 2)):
+                        self.body_refused(self.with_part(body, way, part))
+
+    def test_heads(self):
+        good = function(params=self.PARAMS)
+        for name in ("A", "if", "", 0, None, Text("f"), ["f"]):
+            self.refused(function(name=name))
+        for out in ("text", "", "Number", 0, None, Text("number"), ["row"]):
+            self.refused(function(out=out))
+        for params in ((("a", "text"),), (("a", "Row"),), (("a",),), ("ab",), [("a", "row")], (("a", "row", 0),), (("A", "row"),),
+                       (("a", Text("row")),), ((Text("a"), "row"),), (["a", "row"],), numbers(*"abcd")):
+            self.refused(function(params=params))
+        for thing in (good[:3], good + (0,), list(good), None, ()):
+            self.refused(thing)
 
 
 class Once(unittest.TestCase):

@@ -76,6 +76,23 @@ class Struck(unittest.TestCase):
             if f == 0:
                 self.assertEqual(struck_at(made, unfit, f, n), ())
 
+    def test_nothing_behind_a_call_that_never_gives(self):
+        made = by_text("fn main number n:number", "let x call f n n", "give x", "fn f number a:number b:number", "give a")
+        end = (("out", "", -4),)
+        for most in range(-3, 3):
+            judged = (((), end), ((), (("a", "b", most),)))
+            self.assertEqual(struck_at(made, judged, 0, 1), ((0, "end", end[0]),) if most >= 0 else ())
+
+    def test_a_row_has_no_fewer_numbers_than_none(self):
+        made = by_text("fn main row r:row s:row", "let t call f r", "if 0 1", " give t", "else", " give s",
+                       "fn f row r:row", "give r")
+        judged = (((), (("", "#out", -1), ("", "#out", 0), ("", "#r", 0), ("", "#s", -1))), NONE)
+        for n in (2, 3):
+            self.assertEqual(struck_at(made, judged, 0, n), ((0, "end", ("", "#out", -1)), (0, "end", ("", "#s", -1)))
+                             if n == 2 else ())
+        judged = (NONE, ((("", "#r", -1), ("", "#r", 0)), ()))
+        self.assertEqual(struck_at(made, judged, 0, 0), ((1, "entry", ("", "#r", -1)),))
+
     def test_each_once_of_all_nodes(self):
         made = by_text("fn main number n:number", "if n 0", " let x call f n", " give x", "else", " let y call f n", " give y",
                        "fn f number a:number", "give a")
