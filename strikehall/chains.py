@@ -56,16 +56,26 @@ def leasts_from(away, start):
     return leasts
 
 
-def places_from_each(facts):
-    """A dict from TERMs to lists of (B, C, PLACE): of all facts from A to B the first one of the least C."""
-    firsts = {}
-    for place, (one, other, most) in enumerate(facts):
+def add_firsts(firsts, facts, ahead):
+    """Add facts, ahead of which there are so many, to a dict from (A, B) to (C, PLACE) of the first of the least C."""
+    for place, (one, other, most) in enumerate(facts, start=ahead):
         if (one, other) not in firsts or most < firsts[one, other][0]:
             firsts[one, other] = (most, place)
+
+
+def away_by_firsts(firsts):
+    """A dict from TERMs to lists of (B, C, PLACE) of the facts that lead away from them."""
     away = {}
     for (one, other), (most, place) in firsts.items():
         away.setdefault(one, []).append((other, most, place))
     return away
+
+
+def places_from_each(facts):
+    """Such a dict of these facts: of all from A to B the first one of the least C."""
+    firsts = {}
+    add_firsts(firsts, facts, 0)
+    return away_by_firsts(firsts)
 
 
 def one_fact_more(away, ahead, bests):
@@ -93,6 +103,14 @@ def places_back(turns, term):
     return places[::-1]
 
 
+def add_turn(away, turns, bests):
+    """Add to the turns what chains come to that are one fact longer, and to bests what is less by that."""
+    lowered = one_fact_more(away, turns[-1], bests)
+    turns.append(lowered)
+    for term in lowered:
+        bests[term] = lowered[term][0]
+
+
 def shortest_chain(away, one, other, most, longest):
     """The places of a chain from one to other that comes to most or less, as short as any; None where none does.
 
@@ -101,12 +119,26 @@ def shortest_chain(away, one, other, most, longest):
     bests = {one: 0}
     turns = [{one: (0, None, None)}]
     while turns[-1] and len(turns) <= longest:
-        lowered = one_fact_more(away, turns[-1], bests)
-        turns.append(lowered)
-        for term in lowered:
-            bests[term] = lowered[term][0]
-        if other in lowered and lowered[other][0] <= most:
+        add_turn(away, turns, bests)
+        if other in turns[-1] and turns[-1][other][0] <= most:
             return places_back(turns, other)
+    return None
+
+
+def all_turns(away, one):
+    """What chains from that TERM come to, a turn for each fact more, till none comes to less; of facts that fit."""
+    bests = {one: 0}
+    turns = [{one: (0, None, None)}]
+    while turns[-1]:
+        add_turn(away, turns, bests)
+    return turns
+
+
+def chain_in_turns(turns, other, most):
+    """The places of a chain to another TERM that comes to most or less, as short as any; None where none does."""
+    for many, lowered in enumerate(turns):
+        if other in lowered and lowered[other][0] <= most:
+            return places_back(turns[:many + 1], other)
     return None
 
 
@@ -122,3 +154,11 @@ def shortest_ring(away):
         # No shorter one goes over this TERM.
         away = {one: [fact for fact in facts if fact[0] != term] for one, facts in away.items() if one != term}
     return found
+
+
+def ring_in(facts):
+    """The places of a ring of facts that don't fit, as short as any."""
+    for place, (one, other, _) in enumerate(facts):
+        if one == other:
+            return [place]
+    return shortest_ring(places_from_each(facts))

@@ -1,6 +1,7 @@
 """What nodes tell and what they need, in sayings. A place is what is put for a TERM: a pair (TERM, C)."""
 
 from strikehall.bodies import kind_of_right, nodes_in, number_called, term_of, way_to
+from strikehall.chains import add_firsts
 
 NOUGHT = ("", 0)
 
@@ -46,6 +47,11 @@ def is_call(node):
     return node[0] == "let" and node[2][0] == "call"
 
 
+def may_fault(node):
+    """Whether it is a node of part, with, cut or must."""
+    return node[0] == "must" or node[0] == "let" and node[2][0] in ("part", "with", "cut")
+
+
 def needs_of_place(right):
     """What is needed of the place of a part or a with, of the number of a cut."""
     word, name, atom = right[:3]
@@ -57,9 +63,7 @@ def own_needs(node):
     """A list of what is needed at the node, but for a call or a give, whose needs are judged."""
     if node[0] == "must":
         return sayings_of(atom_place(node[1]), atom_place(node[2]), 0)
-    if node[0] == "let" and node[2][0] in ("part", "with", "cut"):
-        return needs_of_place(node[2])
-    return []
+    return needs_of_place(node[2]) if may_fault(node) else []
 
 
 def facts_of_sum(named, one, other):
@@ -118,6 +122,12 @@ def called_at(functions, node):
     return number, places_of_call(node, functions[number])
 
 
+def is_so(saying, worths):
+    """Whether the saying is so, where the TERMs have these numbers."""
+    one, other, most = saying
+    return worths[one] <= worths[other] + most
+
+
 def facts_of_params(params):
     """A list of what is so of the rows among the params."""
     return [("", "#" + name, 0) for name, kind in params if kind == "row"]
@@ -152,3 +162,47 @@ def needs_at_node(functions, judged, f, node):
         called, places = called_at(functions, node)
         return put_sayings(judged[called][0], places)
     return own_needs(node)
+
+
+class View:
+    """A node by what is judged: the number of the node just ahead, None of the first one, the FACTS, and their firsts.
+
+    The firsts are as add_firsts has them.
+    """
+
+    def __init__(self, body, comes_from, facts, firsts):
+        self.body = body
+        self.comes_from = comes_from
+        self.facts = facts
+        self.firsts = firsts
+
+    def leasts(self):
+        """The least facts."""
+        return {pair: self.firsts[pair][0] for pair in self.firsts}
+
+
+def first_view(functions, judged, f):
+    """The View of the function's first node."""
+    _, params, _, body = functions[f]
+    facts = list(judged[f][0]) + facts_of_params(params)
+    firsts = {}
+    add_firsts(firsts, facts, 0)
+    return View(body, None, facts, firsts)
+
+
+def views_of(functions, judged, f):
+    """A list of the Views of the function's nodes, by number."""
+    nodes, ahead = nodes_in(functions[f][3])
+    views = [first_view(functions, judged, f)]
+    for number, which in ahead[1:]:
+        comes_from = views[number]
+        more = facts_behind(functions, judged, comes_from.body, which)
+        firsts = {pair: comes_from.firsts[pair] for pair in comes_from.firsts}
+        add_firsts(firsts, more, len(comes_from.facts))
+        views.append(View(nodes[len(views)], number, comes_from.facts + more, firsts))
+    return views
+
+
+def all_views(functions, judged):
+    """A list by functions of lists by nodes of the Views."""
+    return [views_of(functions, judged, f) for f in range(len(functions))]

@@ -6,36 +6,42 @@ those of greater Cs.
 """
 
 from strikehall.bodies import kind_of_right, nodes_in
-from strikehall.chains import facts_from_each, least_facts, leasts_from, numbers_that_fit
+from strikehall.bounds import Bounds
+from strikehall.chains import least_facts
 from strikehall.facts import called_at, facts_of_params, is_call, own_facts, places_of_give
 
 
 class Spot:
-    """A call or a give: what is known on the way to it, whatever is judged, and what has to be looked up.
+    """A call or a give, node N of F: what is known on the way to it, whatever is judged, and what has to be looked up.
 
     Known are the least facts; calls are the (F, PLACES) of the functions that are called on the way; thing is that of
     which sayings may be struck here, with places put.
     """
 
-    def __init__(self, f, known, calls, thing, places):
+    def __init__(self, f, n, known, calls, thing, places):
         self.f = f
+        self.n = n
         self.known = known
         self.calls = calls
         self.thing = thing
         self.places = places
+
+    def put_for(self, term):
+        """The place that is put for a TERM of the thing."""
+        return self.places.get(term, (term, 0))
 
     def looks_up(self, things):
         """Whether one of these things tells facts here."""
         return (self.f, "entry") in things or any((called, "end") in things for called, _ in self.calls)
 
 
-def spot_at(functions, f, node, facts, calls):
+def spot_at(functions, f, n, node, facts, calls):
     """The Spot of a node, None of one at which nothing is struck."""
     if node[0] == "give":
-        return Spot(f, least_facts(facts), calls, (f, "end"), places_of_give(node))
+        return Spot(f, n, least_facts(facts), calls, (f, "end"), places_of_give(node))
     if is_call(node):
         called, places = called_at(functions, node)
-        return Spot(f, least_facts(facts), calls, (called, "entry"), places)
+        return Spot(f, n, least_facts(facts), calls, (called, "entry"), places)
     return None
 
 
@@ -59,7 +65,7 @@ def spots_of(functions, f):
             facts, calls = ways[number]
             facts, calls = behind(functions, nodes[number], which, facts, calls)
         ways.append((facts, calls))
-        spots.append(spot_at(functions, f, node, facts, calls))
+        spots.append(spot_at(functions, f, len(spots), node, facts, calls))
     return spots
 
 
@@ -118,32 +124,33 @@ def leasts_at(spot, left):
     return leasts
 
 
-def least_shown(one, other, away, found):
-    """The least C for which it is shown that one place is no more than the other and C, None where there is none.
-
-    Found is a dict from TERMs to what chains from them come to, as far as it was asked for.
-    """
+def least_shown(one, other, bounds):
+    """The least C for which it is shown that one place is no more than the other and C, None where there is none."""
     if one[0] == other[0]:
         return one[1] - other[1]
-    if one[0] not in found:
-        found[one[0]] = leasts_from(away, one[0])
-    least = found[one[0]].get(other[0])
+    least = bounds.least(one[0], other[0])
     return None if least is None else least + one[1] - other[1]
+
+
+def struck_pairs(spot, left, leasts):
+    """A list of (A, B, Cs), the Cs rising: what is struck at the Spot of its thing, where these are the least facts."""
+    bounds = Bounds(leasts)
+    if not bounds.fitting:
+        return []
+    struck = []
+    for (one, other), numbers in left[spot.thing].items():
+        least = least_shown(spot.put_for(one), spot.put_for(other), bounds)
+        gone = [most for most in numbers if least is None or most < least]
+        if gone:
+            struck.append((one, other, gone))
+    return struck
 
 
 def struck_at_spot(spot, left):
     """A list of the sayings of the Spot's thing that are struck there."""
-    pairs = left[spot.thing]
-    leasts = leasts_at(spot, left) if pairs else {}
-    if not pairs or numbers_that_fit(leasts) is None:
+    if not left[spot.thing]:
         return []
-    away = facts_from_each(leasts)
-    found = {}
-    struck = []
-    for (one, other), numbers in pairs.items():
-        least = least_shown(spot.places.get(one, (one, 0)), spot.places.get(other, (other, 0)), away, found)
-        struck.extend([(one, other, most) for most in numbers if least is None or most < least])
-    return struck
+    return [(one, other, most) for one, other, gone in struck_pairs(spot, left, leasts_at(spot, left)) for most in gone]
 
 
 def struck_in_all(spots, left):
@@ -165,10 +172,16 @@ def strike_out(left, struck):
             left[f, side].pop((one, other))
 
 
-def go_round(functions, judged):
-    """A pair of the rounds, a list of rising tuples, and the JUDGED that is left."""
+def waiting_for(spots, struck):
+    """A list of those Spots at which facts are others, now that this is struck."""
+    # Where the facts are the same, all that isn't shown by them is gone.
+    things = {(f, side): True for f, side, _ in struck}
+    return [spot for spot in spots if spot.looks_up(things)]
+
+
+def go_round(spots, judged):
+    """A pair of the rounds, a list of rising tuples, and the JUDGED that is left, where these are all Spots."""
     left = left_things(judged)
-    spots = all_spots(functions)
     waiting = list(spots)
     rounds = []
     while True:
@@ -177,6 +190,4 @@ def go_round(functions, judged):
             return rounds, judged_of(left)
         rounds.append(tuple(struck))
         strike_out(left, struck)
-        # Where the facts are the same, all that isn't shown by them is gone.
-        things = {(f, side): True for f, side, _ in struck}
-        waiting = [spot for spot in spots if spot.looks_up(things)]
+        waiting = waiting_for(spots, struck)

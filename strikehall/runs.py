@@ -1,7 +1,8 @@
 """Inputs and runs."""
 
-from strikehall.bodies import nodes_in, number_called, term_of
+from strikehall.bodies import nodes_in, term_of
 from strikehall.errors import BadInput, BadQuestion
+from strikehall.facts import is_so
 from strikehall.programs import is_number_below, need_program
 
 MOST_STEPS = 300
@@ -23,18 +24,18 @@ def is_input(thing, kind):
     return all(is_number_input(number) for number in thing)
 
 
-def is_so(saying, worths):
-    """Whether the saying is so, where the TERMs have these numbers."""
-    one, other, most = saying
-    return worths[one] <= worths[other] + most
-
-
 def numbers_of_terms(params, worths):
     """A dict from the TERMs of an entry to their numbers, where these are handed on to it."""
     numbers = {"": 0}
     for (name, kind), worth in zip(params, worths):
         numbers[term_of(name, kind)] = len(worth) if kind == "row" else worth
     return numbers
+
+
+def are_given(given, params, worths):
+    """Whether all of GIVEN is so, where these are handed in."""
+    numbers = numbers_of_terms(params, worths)
+    return all(is_so(saying, numbers) for saying in given)
 
 
 def are_inputs(program, thing):
@@ -46,8 +47,7 @@ def are_inputs(program, thing):
     for (_, kind), worth in zip(params, thing):
         if not is_input(worth, kind):
             return False
-    numbers = numbers_of_terms(params, thing)
-    return all(is_so(saying, numbers) for saying in given)
+    return are_given(given, params, thing)
 
 
 def need_inputs(program, inputs):
@@ -98,66 +98,75 @@ def fault_of(node, worths):
     return None if 0 <= place < len(worths[name]) else "part"
 
 
-class Frame:
-    """A function that has been called and hasn't given yet: where it is, and what its names have."""
+class Ground:
+    """What all runs of a program go over: of each function its params, its nodes, and who is meant by a name."""
 
-    def __init__(self, f, nodes, ahead, worths):
+    def __init__(self, program):
+        self.params = [params for _, params, _, _ in program[1]]
+        self.called = {function[0]: f for f, function in enumerate(program[1])}
+        self.nodes = []
+        # Of each function a dict from the numbers of its ifs to those of their second bodies.
+        self.others = []
+        for function in program[1]:
+            nodes, ahead = nodes_in(function[3])
+            self.nodes.append(nodes)
+            self.others.append({comes[0]: n for n, comes in enumerate(ahead) if comes is not None and comes[1] == 1})
+
+
+class Frame:
+    """A function that has been called and hasn't given yet: where it is, what was handed on, what its names have."""
+
+    def __init__(self, f, handed, worths):
         self.f = f
         self.n = 0
-        self.nodes = nodes
-        self.ahead = ahead
+        self.handed = handed
         self.worths = worths
 
-    def node(self):
-        """The node that comes."""
-        return self.nodes[self.n]
-
-    def let(self, worth):
-        """Give the name of the let that comes what it lets, and go on behind it."""
-        self.worths[self.node()[1]] = worth
+    def let(self, name, worth):
+        """Give the name what is let, and go on behind the let."""
+        self.worths[name] = worth
         self.n += 1
-
-    def branch(self):
-        """Go into one of the bodies of the if that comes."""
-        _, one, other = self.node()[:3]
-        if atom_worth(one, self.worths) <= atom_worth(other, self.worths):
-            self.n += 1
-        else:
-            self.n = self.ahead.index((self.n, 1))
 
 
 class Run:
     """A run: what it has come to so far, and how it ended."""
 
-    def __init__(self, program, inputs):
-        self.callees = program[1]
-        self.bodies = [nodes_in(function[3]) for function in program[1]]
+    def __init__(self, ground, inputs):
+        self.ground = ground
         self.frames = []
-        # The (F, N) of each step, and the (F, ARGS) of each call.
+        # The (F, N) of each step, the (F, ARGS) of each call, the (F, ARGS, WORTH) of each give.
         self.came = []
         self.calls = []
+        self.gives = []
         self.end = None
         self.enter(0, inputs)
 
-    def enter(self, f, worths):
+    def enter(self, f, handed):
         """Call the function of that number."""
-        self.calls.append((f, worths))
-        nodes, ahead = self.bodies[f]
-        names = {name: worth for (name, _), worth in zip(self.callees[f][1], worths)}
-        self.frames.append(Frame(f, nodes, ahead, names))
+        self.calls.append((f, handed))
+        self.frames.append(Frame(f, handed, {name: worth for (name, _), worth in zip(self.ground.params[f], handed)}))
 
     def give(self, worth):
         """Go back to where the function was called."""
-        self.frames.pop()
+        frame = self.frames.pop()
+        self.gives.append((frame.f, frame.handed, worth))
         if self.frames:
-            self.frames[-1].let(worth)
+            frame = self.frames[-1]
+            frame.let(self.ground.nodes[frame.f][frame.n][1], worth)
         else:
             self.end = ("give", worth)
+
+    def branch(self, frame, node):
+        """Go into one of the bodies of the if."""
+        if atom_worth(node[1], frame.worths) <= atom_worth(node[2], frame.worths):
+            frame.n += 1
+        else:
+            frame.n = self.ground.others[frame.f][frame.n]
 
     def step(self):
         """Come to one node more."""
         frame = self.frames[-1]
-        node = frame.node()
+        node = self.ground.nodes[frame.f][frame.n]
         self.came.append((frame.f, frame.n))
         fault = fault_of(node, frame.worths)
         if fault is not None:
@@ -165,15 +174,14 @@ class Run:
         elif node[0] == "give":
             self.give(arg_worth(node[1], frame.worths))
         elif node[0] == "if":
-            frame.branch()
+            self.branch(frame, node)
         elif node[0] == "must":
             frame.n += 1
         elif node[2][0] == "call":
             _, called, args = node[2]
-            worths = tuple([arg_worth(arg, frame.worths) for arg in args])
-            self.enter(number_called(self.callees, called), worths)
+            self.enter(self.ground.called[called], tuple([arg_worth(arg, frame.worths) for arg in args]))
         else:
-            frame.let(right_worth(node[2], frame.worths))
+            frame.let(node[1], right_worth(node[2], frame.worths))
 
     def go(self, limit):
         """Go on to the end."""
@@ -184,14 +192,24 @@ class Run:
                 self.step()
 
 
+def need_limit(limit):
+    """Refuse what is no limit; BadQuestion."""
+    if not is_number_below(limit, MOST_STEPS + 1):
+        raise BadQuestion("no limit")
+
+
+def run_over(ground, inputs, limit):
+    """The Run, ended, of good inputs by a good limit."""
+    ended = Run(ground, inputs)
+    ended.go(limit)
+    return ended
+
+
 def run_to_end(program, inputs, limit):
     """The Run, ended; BadProgram, then BadInput, then BadQuestion."""
     need_inputs(program, inputs)
-    if not is_number_below(limit, MOST_STEPS + 1):
-        raise BadQuestion("no limit")
-    ended = Run(program, inputs)
-    ended.go(limit)
-    return ended
+    need_limit(limit)
+    return run_over(Ground(program), inputs, limit)
 
 
 def run(program, inputs, limit):

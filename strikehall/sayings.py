@@ -1,7 +1,7 @@
 """Terms, sayings, facts, and what follows from them."""
 
 from strikehall.chains import (
-    facts_from_each, least_facts, leasts_from, numbers_that_fit, places_from_each, shortest_chain, shortest_ring)
+    facts_from_each, least_facts, leasts_from, numbers_that_fit, places_from_each, ring_in, shortest_chain)
 from strikehall.errors import BadSaying
 from strikehall.programs import is_name
 
@@ -101,9 +101,4 @@ def chain_for(facts, saying):
 
 def ring_for(facts):
     """A list of places of a ring by which nothing fits, as short as any, None where the facts fit; BadSaying."""
-    if fits(facts):
-        return None
-    for place, (one, other, _) in enumerate(facts):
-        if one == other:
-            return [place]
-    return shortest_ring(places_from_each(facts))
+    return None if fits(facts) else ring_in(facts)

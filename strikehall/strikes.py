@@ -49,16 +49,20 @@ def lies_within(program, one, other):
 def rounds_of(program, judged):
     """A list of rising tuples of what is struck, round by round; BadProgram, then BadJudged."""
     need_judged(program, judged)
-    return go_round(program[1], judged)[0]
+    return go_round(all_spots(program[1]), judged)[0]
 
 
 def left_of(program, judged):
     """The JUDGED that is left; BadProgram, then BadJudged."""
     need_judged(program, judged)
-    return go_round(program[1], judged)[1]
+    return go_round(all_spots(program[1]), judged)[1]
+
+
+def standing_in(program):
+    """STANDING of what surely is a program."""
+    return go_round(all_spots(program[1]), candidates_in(program))[1]
 
 
 def standing(program):
     """STANDING, what is left of the CANDIDATES; BadProgram."""
-    need_program(program)
-    return go_round(program[1], candidates_in(program))[1]
+    return standing_in(need_program(program))

@@ -74,13 +74,20 @@ def saying_text(saying):
     return f"{term_text(one)} {term_text(other)} {most}"
 
 
+def program_rows(program):
+    """A list of lists of rows of what surely is a program: those of GIVEN, then those of each function."""
+    given, functions = program
+    return [["given " + saying_text(saying) for saying in given]] + [function_rows(function) for function in functions]
+
+
+def text_of_rows(parts):
+    """The text that has the rows of all these lists."""
+    return "\n".join([row for rows in parts for row in rows])
+
+
 def program_text(program):
     """The program's text; BadProgram."""
-    given, functions = need_program(program)
-    rows = ["given " + saying_text(saying) for saying in given]
-    for function in functions:
-        rows.extend(function_rows(function))
-    return "\n".join(rows)
+    return text_of_rows(program_rows(need_program(program)))
 
 
 def reading_of(text):

@@ -5,6 +5,8 @@ from strikehall.errors import BadJudged, BadQuestion
 from strikehall.facts import facts_on_way, needs_at_node, put_sayings
 from strikehall.programs import is_number_below, need_function, need_program
 
+SIDES = ("entry", "end")
+
 
 def numbers_in(node):
     """A list of the Cs of the node's atoms."""
@@ -37,6 +39,11 @@ def terms_at_end(function):
     return tuple(sorted(terms_at_entry(function[1]) + (term_of("out", function[2]),)))
 
 
+def terms_of_side(function, side):
+    """The TERMs of the function's ENTRY or END, rising."""
+    return terms_at_entry(function[1]) if side == "entry" else terms_at_end(function)
+
+
 def entry_terms(program, f):
     """The TERMs of the function's ENTRY, rising; BadProgram, then BadQuestion."""
     return terms_at_entry(need_function(need_program(program), f)[1])
@@ -52,14 +59,18 @@ def all_sayings(terms, numbers):
     return tuple([(one, other, most) for one in terms for other in terms if one != other for most in numbers])
 
 
-def candidates_in(program):
-    """The CANDIDATES of what surely is a program."""
+def candidates_by(program, numbers):
+    """The CANDIDATES of what surely is a program, these numbers being its POOL."""
     given, functions = program
-    numbers = pool_in(program)
     judged = [(all_sayings(terms_at_entry(function[1]), numbers), all_sayings(terms_at_end(function), numbers))
               for function in functions]
     judged[0] = (tuple(sorted(set(given))), judged[0][1])
     return tuple(judged)
+
+
+def candidates_in(program):
+    """The CANDIDATES of what surely is a program."""
+    return candidates_by(program, pool_in(program))
 
 
 def candidates(program):

@@ -5,16 +5,24 @@ import unittest
 from unittest import mock
 
 from strikehall import looking
+from strikehall.anew import changed, hangs_on, hangs_straight, standing_anew, things_of, touched_by
+from strikehall.checking import check_paper
+from strikehall.desk import Desk
 from strikehall.errors import BadProgram
+from strikehall.faults import came_to, end_text, is_broken
+from strikehall.keeper import Keeper
+from strikehall.papers import fits_at, numbers_against, paper_of, scope_at
 from strikehall.programs import ahead_of, is_program, kinds_of, need_program, nodes_of
 from strikehall.runs import calls_of, need_inputs, run, steps_of
+from strikehall.shown import dead_nodes, is_let_by, open_nodes, unshown_at
 from strikehall.strikes import (
     all_struck, holds_by, left_of, lies_within, rounds_of, standing, struck_at)
 from strikehall.texts import program_text, read_program
+from strikehall.trying import all_faults, first_break, first_fault, inputs_tried
 from strikehall.ways import (
     candidates, end_terms, entry_terms, facts_at, need_judged, needed_at, pool_of)
 from tests.samples import (
-    ATOM, GIVE, MIXED, Number, Odd, Text, at, chain, function, let, musts, numbers, program, row, rows)
+    ATOM, GIVE, MIXED, MIXED_TEXT, Number, Odd, Text, at, chain, function, let, musts, numbers, program, row, rows)
 
 BODY = """let nm sum x+1 2
 let nl sum x+1 2
@@ -166,6 +174,7 @@ class Once(unittest.TestCase):
     def test_each_function_looks_once(self):
         inputs = (2, (1, 2, 3, 4, 5))
         judged = candidates(MIXED)
+        paper = paper_of(MIXED)
         calls = [
             lambda: is_program(MIXED), lambda: need_program(MIXED), lambda: nodes_of(MIXED, 0),
             lambda: ahead_of(MIXED, 0, 8), lambda: kinds_of(MIXED, 1), lambda: program_text(MIXED),
@@ -174,13 +183,40 @@ class Once(unittest.TestCase):
             lambda: need_judged(MIXED, judged), lambda: struck_at(MIXED, judged, 0, 8),
             lambda: all_struck(MIXED, judged), lambda: holds_by(MIXED, judged), lambda: rounds_of(MIXED, judged),
             lambda: left_of(MIXED, judged), lambda: standing(MIXED), lambda: lies_within(MIXED, judged, judged),
+            lambda: unshown_at(MIXED, judged, 0, 8), lambda: open_nodes(MIXED), lambda: dead_nodes(MIXED),
+            lambda: is_let_by(MIXED), lambda: scope_at(MIXED, 0, 8), lambda: fits_at(MIXED, judged, 2, 0, (("#r", 0),)),
+            lambda: numbers_against(MIXED, judged, 0, 0, 0), lambda: paper_of(MIXED), lambda: check_paper(MIXED, paper),
+            lambda: end_text(MIXED, ("limit",)), lambda: inputs_tried(MIXED, 4), lambda: first_fault(MIXED, 4, 300),
+            lambda: all_faults(MIXED, 4, 300), lambda: first_break(MIXED, 0, "entry", ("", "a", -4), 4, 300),
+            lambda: things_of(MIXED), lambda: hangs_straight(MIXED, 0, "end"), lambda: hangs_on(MIXED, 0, "end"),
+            lambda: Keeper(MIXED), lambda: Desk(MIXED_TEXT),
         ]
         for k, call in enumerate(calls):
             self.assertEqual(self.looks(call), 3, k)
         plain = program(function(name="m", params=numbers("n") + rows("r")), function(name="f"), function(name="g"))
         for k, call in enumerate([lambda: need_inputs(plain, inputs), lambda: run(plain, inputs, 300),
-                                  lambda: steps_of(plain, inputs, 300), lambda: calls_of(plain, inputs, 300)]):
+                                  lambda: steps_of(plain, inputs, 300), lambda: calls_of(plain, inputs, 300),
+                                  lambda: came_to(plain, inputs, 300),
+                                  lambda: is_broken(plain, inputs, 300, 0, "entry", ("n", "", 0))]):
             self.assertEqual(self.looks(call), 3, k)
+
+    def test_what_is_changed_and_what_comes_once_each(self):
+        change = ("put", 2, MIXED[1][2])
+        judged = candidates(MIXED)
+        for call in (lambda: changed(MIXED, change), lambda: touched_by(MIXED, change), lambda: standing_anew(MIXED, judged, change)):
+            self.assertEqual(self.looks(call), 6)
+        keeper = Keeper(MIXED)
+        self.assertEqual(self.looks(lambda: keeper.change(change)), 3)
+        for call in (keeper.back, keeper.program, keeper.standing, keeper.gone, keeper.looked):
+            self.assertEqual(self.looks(call), 0)
+
+    def test_a_desk_looks_just_at_what_comes(self):
+        desk = Desk(MIXED_TEXT)
+        self.assertEqual(self.looks(lambda: desk.say("put 3 fn k number ; give 0")), 4)
+        self.assertEqual(self.looks(lambda: desk.say("drop")), 3)
+        for line in ("back", "open", "dead", "rounds", "try 4", "program", "stands g end", "needs g 1", "gone", "run 1 [1]",
+                     "break main end a out 0 3"):
+            self.assertEqual(self.looks(lambda: desk.say(line)), 0, line)
 
     def test_each_time_anew(self):
         made = program(function(params=rows("r"), body=("give", row("r")), out="row"))
