@@ -148,7 +148,7 @@ def answer_looked(kept, _):
 
 def answer_program(kept, _):
     """Tell the program's text."""
-    return " ; ".join([row for rows in program_rows(kept.made) for row in rows])
+    return text_of_rows(program_rows(kept.made)).replace("\n", " ; ")
 
 
 ANSWERS = {
