@@ -263,6 +263,35 @@ class Changes(Base):
         self.says("looked", "3")
         self.says("back", "refused badquestion")
 
+    def test_rows_of_each_kind(self):
+        """In front of a give, in a function of a number a and a row s: what is read, what is refused at that row."""
+        good = ["let x be a-4", "let x be 4", "let x sum a+1 -3", "let x long s", "let x part s a", "let x with s a+1 2",
+                "let x cut s a", "let x call f a", "let x call g a s", "must a 3", "must -1 a+2"]
+        form = ["let x be", "let x be a b", "let x be 5", "let x be a+5", "let x be a-0", "let x sum a", "let X be a",
+                "let x long", "let x long 1",
+                "let x part s", "let x with s a", "let x cut a+1 s", "let x call", "let x call 1", "let x give a",
+                "let if be a", "let x", "let",
+                "must a", "must a b c", "must", "else", "if a", " must a 0", "must  a 0", "give", "give a 0", "given 0 a 1", "", "a"]
+        misfit = ["let x be b", "let x be s", "let a be 0", "let s be 0", "let x sum a s", "let x long a", "let x part a a",
+                  "let x part s s",
+                  "let x with a a a", "let x with s a s", "let x cut a a", "let x call main a s", "let x call h a",
+                  "let x call f", "let x call f s",
+                  "let x call f a a", "let x call g s a", "must a s", "must b 0", "must s s"]
+        head = "put 2 fn g number a:number s:row"
+        for row in good:
+            self.says(f"{head} ; {row} ; give a", "done")
+            self.says(f"{head} ; if a 0 ;  {row} ;  give a ; else ;  {row.replace(' x ', ' y ')} ;  give a", "done")
+            self.assertIn(f" ; if a 0 ;  {row} ;  give a ; else", self.desk.say("program"))
+        for row in form + misfit:
+            self.says(f"{head} ; {row} ; give a", "refused badtext 13")
+            self.says(f"{head} ; let z be a ; if z a ;  give a ; else ;  {row} ;  give a", "refused badtext 17")
+        for row in ("give s", "give b", "give"):
+            self.says(f"{head} ; {row}", "refused badtext 13")
+        self.says("put 2 fn g row a:number s:row ; give a", "refused badtext 13")
+        self.says("put 2 fn g row a:number s:row ; give s", "done")
+        for params in ("a:numbers", "a", "a:", ":row", "a:number:row", "a:row b:row c:row d:row", "if:row", "A:row"):
+            self.says(f"put 2 fn g number {params} ; give 0", "refused badtext 12")
+
     def test_a_fifth_function(self):
         self.says("put 2 fn g number ; give 0", "done")
         self.says("put 3 fn h number ; give 0", "done")

@@ -71,7 +71,8 @@ CALLS = {
     "sayings": {"is_term": ("a",), "is_saying": (("a", "b", 1),), "need_facts": (FACTS,), "fits": (FACTS,),
                 "least_between": (FACTS, "a", ""), "follows": (FACTS, ("a", "", 1)), "numbers_for": (FACTS,),
                 "chain_for": (FACTS, ("a", "", 2)), "ring_for": (UNFIT,)},
-    "ways": {"pool_of": (MADE,), "entry_terms": (MADE, 1), "end_terms": (MADE, 1), "candidates": (MADE,), "need_judged": (MADE, JUDGED),
+    "ways": {"pool_of": (MADE,), "entry_terms": (MADE, 1), "end_terms": (MADE, 1), "candidates": (MADE,),
+             "need_judged": (MADE, JUDGED),
              "facts_at": (MADE, JUDGED, 1, 1), "needed_at": (MADE, JUDGED, 1, 1), "put_in": (FACTS, {"a": ("c", 1)})},
     "strikes": {"struck_at": (MADE, JUDGED, 1, 1), "all_struck": (MADE, JUDGED), "holds_by": (MADE, JUDGED),
                 "lies_within": (MADE, JUDGED, JUDGED), "rounds_of": (MADE, JUDGED), "left_of": (MADE, JUDGED), "standing": (MADE,)},
@@ -79,7 +80,8 @@ CALLS = {
     "papers": {"scope_at": (MADE, 1, 1), "fits_at": (MADE, JUDGED, 1, 1, (("#s", 1), ("a", 0), ("u", 1))),
                "numbers_against": (MADE, standing(MADE), 1, 0, 1), "paper_of": (MADE,)},
     "checking": {"check_paper": (MADE, PAPER)},
-    "faults": {"came_to": (MADE, INPUTS, 1), "is_broken": (MADE, INPUTS, 1, 1, "entry", ("a", "", 1)), "end_text": (MADE, ("give", 1)),
+    "faults": {"came_to": (MADE, INPUTS, 1), "is_broken": (MADE, INPUTS, 1, 1, "entry", ("a", "", 1)),
+               "end_text": (MADE, ("give", 1)),
                "inputs_text": (INPUTS,)},
     "trying": {"weight_of": (INPUTS,), "inputs_tried": (MADE, 1), "first_fault": (MADE, 1, 1), "all_faults": (MADE, 1, 1),
                "first_break": (MADE, 1, "entry", ("a", "", 1), 1, 1)},
@@ -155,7 +157,8 @@ class Told(unittest.TestCase):
             else:
                 # All else can't be changed: it is of numbers, texts, truths and tuples of these.
                 hash(told)
-        self.assertEqual(lists, {"nodes_of", "kinds_of", "calls_of", "numbers_for", "chain_for", "ring_for", "rounds_of", "open_nodes",
+        self.assertEqual(lists, {"nodes_of", "kinds_of", "calls_of", "numbers_for", "chain_for", "ring_for", "rounds_of",
+                                 "open_nodes",
                                  "dead_nodes", "came_to", "inputs_tried", "all_faults"})
 
     def test_what_a_keeper_tells_can_not_be_changed(self):
