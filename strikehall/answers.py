@@ -32,14 +32,6 @@ def named(kept, pairs):
     return listed([f"{kept.made[1][f][0]} {what}" for f, what in pairs])
 
 
-def found_text(kept, found):
-    """The text of inputs and the end of their run, or of none."""
-    if found is None:
-        return "none"
-    inputs, end = found
-    return inputs_text(inputs) + " : " + end_text_in(kept.made[1], end)
-
-
 def answer_stands(kept, words):
     """Tell what stands at a side of a function."""
     name, side = words
@@ -93,11 +85,17 @@ def answer_run(kept, words):
 def answer_try(kept, words):
     """Tell the first inputs tried whose run faults, and its end."""
     weight = read_number_below(words[0], MOST_WEIGHT + 1)
-    return None if weight is None else found_text(kept, first_fault_in(kept.made, weight, MOST_STEPS))
+    if weight is None:
+        return None
+    found = first_fault_in(kept.made, weight, MOST_STEPS)
+    if found is None:
+        return "none"
+    inputs, end = found
+    return inputs_text(inputs) + " : " + end_text_in(kept.made[1], end)
 
 
 def answer_break(kept, words):
-    """Tell the first inputs tried by whose run the saying is broken, and its end; BadSaying."""
+    """Tell the first inputs tried by whose run the saying is broken; BadSaying."""
     name, side = words[:2]
     f = number_named(kept, name)
     saying = read_saying(words[2:5])
@@ -106,7 +104,8 @@ def answer_break(kept, words):
         return None
     if not is_saying_of(saying, terms_of_side(kept.made[1][f], side)):
         raise BadSaying("no saying of these terms")
-    return found_text(kept, first_break_in(kept.made, f, side, saying, weight, MOST_STEPS))
+    inputs = first_break_in(kept.made, f, side, saying, weight, MOST_STEPS)
+    return "none" if inputs is None else inputs_text(inputs)
 
 
 def answer_put(kept, words):

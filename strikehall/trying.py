@@ -107,12 +107,11 @@ def all_faults(program, weight, limit):
 
 
 def first_break_in(program, f, side, saying, weight, limit):
-    """The first inputs tried by whose run the saying is broken, and its end, None where there are none; all good."""
+    """The first inputs tried by whose run the saying is broken, None where there are none; all good."""
     ground = Ground(program)
     for inputs in tried(program, weight):
-        ended = run_over(ground, inputs, limit)
-        if is_broken_by(ended, f, program[1][f], side, saying):
-            return inputs, ended.end
+        if is_broken_by(run_over(ground, inputs, limit), f, program[1][f], side, saying):
+            return inputs
     return None
 
 
@@ -121,5 +120,4 @@ def first_break(program, f, side, saying, weight, limit):
     need_saying_at(need_program(program), f, side, saying)
     need_weight(weight)
     need_limit(limit)
-    found = first_break_in(program, f, side, saying, weight, limit)
-    return None if found is None else found[0]
+    return first_break_in(program, f, side, saying, weight, limit)

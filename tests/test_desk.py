@@ -129,25 +129,62 @@ class Told(Base):
         self.says("try 0", "nothing : fault must main 0")
 
     def test_break(self):
-        self.says("break main end 0 out 0 4", "1 [-1] : give -1")
+        self.says("break main end 0 out 0 4", "1 [-1]")
         self.says("break main end 0 out 0 1", "none")
-        self.says("break f entry a 0 1 4", "2 [] : give 3")
-        self.says("break f end out a 0 4", "1 [] : give 2")
+        self.says("break f entry a 0 1 4", "2 []")
+        self.says("break f end out a 0 4", "1 []")
         self.says("break f end out a 1 4", "none")
-        self.says("break main entry n 0 0 1", "1 [] : give 2")
-        self.says("break main entry n #r 0 4", "1 [] : give 2")
-        self.says("break main entry #r 0 0 4", "1 [0] : give 0")
-        self.says("break f end 0 out -" + "9" * 300 + " 4", "1 [] : give 2")
+        self.says("break main entry n 0 0 1", "1 []")
+        self.says("break main entry n #r 0 4", "1 []")
+        self.says("break main entry #r 0 0 4", "1 [0]")
+        self.says("break f end 0 out -" + "9" * 300 + " 4", "1 []")
         self.says("break f end 0 out " + "9" * 300 + " 4", "none")
         self.desk = Desk("fn main number\nlet x call f 1\nmust x 0\ngive 0\nfn f number a:number\ngive a")
-        self.says("break f entry a 0 0 0", "nothing : fault must main 1")
+        self.says("break f entry a 0 0 0", "nothing")
         self.desk = Desk("fn main row r:row\nlet x call f r\ngive x\nfn f row s:row\nlet x call f s\ngive x")
-        self.says("break f entry #s 0 0 2", "[0] : limit")
+        self.says("break f entry #s 0 0 2", "[0]")
         self.says("break main end #r #out 0 2", "none")
+
+    def test_break_tells_inputs_alone_and_try_the_end_too(self):
+        self.desk = Desk("fn main number n:number\nlet z call more n\ngive z\nfn more number x:number\ngive x+1")
+        self.says("break more end out x 0 1", "0")
+        self.says("break more entry x 0 0 1", "1")
+        self.says("break more entry 0 x 0 1", "-1")
+        self.says("break more end out x 1 1", "none")
+        self.says("try 1", "none")
+        faults = "\nlet z call next 1\ngive z\nfn next number x:number\nmust x 0\ngive 0"
+        for params, told in (("", "nothing"), (" r:row", "[]"), (" n:number", "0"), (" n:number r:row", "0 []"),
+                             (" r:row s:row n:number", "[] [] 0")):
+            self.desk = Desk("fn main number" + params + faults)
+            self.says("break next entry x 0 0 0", told)
+            self.says("break next entry x 0 0 4", told)
+            self.says("break next entry x 0 1 4", "none")
+            self.says("try 0", told + " : fault must next 0")
+        self.desk = Desk("given 0 #r -2\nfn main number r:row\nlet a part r 0\nlet b part r 1\nlet z call f b\ngive 0\n"
+                         "fn f number x:number\nlet y call f x\ngive y")
+        self.says("break f entry x 0 0 2", "none")
+        self.says("break f entry x 0 0 3", "[0,1]")
+        self.says("break f entry x 0 1 4", "[0,2]")
+        self.says("try 4", "none")
+
+    def test_break_and_try_by_the_limit_300(self):
+        # Just 4 is tried. The last node of main stands at the step 300, or by one more node ahead at the step 301.
+        for more, broken, faulty in (("", "4", "4 : fault must main 5"), ("let u be 0\n", "none", "none")):
+            text = ("given 0 n -4\nfn main number n:number\n" + more + "let a sum n n\nlet b sum a a+2\nlet c sum b b\n"
+                    "let d sum c c\nlet x call f d+1\n{}give x\n"
+                    "fn f number n:number\nif n 0\n give 0\nelse\n let u be 1\n let m call f n-1\n give m")
+            self.desk = Desk(text.format(""))
+            self.says("run 4", "give 0" if more == "" else "limit")
+            self.says("break main end n out 3 4", broken)
+            self.says("break main end n out 4 4", "none")
+            self.says("break main end n out 3 3", "none")
+            self.desk = Desk(text.format("must x -1\n"))
+            self.says("try 4", faulty)
+            self.says("try 3", "none")
 
     def test_break_by_numbers_of_more_figures_than_there_may_be(self):
         for figures in (301, 900, 901, 5000):
-            self.says("break f end 0 out -" + "9" * figures + " 4", "1 [] : give 2")
+            self.says("break f end 0 out -" + "9" * figures + " 4", "1 []")
             self.says("break f end 0 out " + "1" + "0" * figures + " 4", "none")
 
     def test_program(self):
@@ -167,8 +204,8 @@ class Told(Base):
         self.says("dead", "run 0")
         self.says("run -1", "fault must stands 0")
         self.says("try 4", "-1 : fault must stands 0")
-        self.says("break end end end out -1 0", "0 : give 0")
-        self.says("break stands entry entry 0 2 4", "3 : give 3")
+        self.says("break end end end out -1 0", "0")
+        self.says("break stands entry entry 0 2 4", "3")
         self.says("gone", "open end, stands end, stands entry, end end, end entry, run end, run entry")
         self.says("put 3 fn put number", "refused badtext 10")
         self.says("put 3 fn put number ; give 0", "done")
@@ -465,7 +502,7 @@ class Many(Base):
         if len(terms) > 1:
             saying = (*chance.sample(terms, 2), chance.randint(-4, 4))
             inputs = first_break(made, f, side, saying, weight, 300)
-            told = "none" if inputs is None else f"{inputs_text(inputs)} : {end_text(made, run(made, inputs, 300))}"
+            told = "none" if inputs is None else inputs_text(inputs)
             self.says(f"break {made[1][f][0]} {side} {self.sayings([saying])} {weight}", told)
 
     def test_programs_and_their_changes(self):
